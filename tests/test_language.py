@@ -1,0 +1,97 @@
+"""The rules of the language that can be told of the program's text at a glance."""
+
+import ast
+import pathlib
+import re
+import unittest
+
+import unseenstocks
+
+PACKAGE = pathlib.Path(unseenstocks.__file__).parent
+BUILTINS = set(
+    "len range enumerate zip min max sum abs sorted reversed int str bool list tuple dict set isinstance ord repr any"
+    " all divmod ValueError NotImplemented".split())
+METHODS = set(
+    "append clear copy count endswith extend find get index insert isalnum isalpha isdigit islower isspace isupper"
+    " items join keys ljust lower lstrip partition pop remove replace reverse rfind rjust rpartition rsplit rstrip"
+    " setdefault split splitlines startswith strip update upper values zfill bit_length isascii".split())
+DOUBLE = set("__init__ __eq__ __len__ __or__ __contains__".split())
+BARRED_NODES = (
+    ast.AsyncFunctionDef, ast.Global, ast.Await, ast.GeneratorExp, ast.Lambda, ast.Try, ast.Div, ast.Import,
+    ast.AnnAssign, ast.Yield, ast.YieldFrom, ast.NamedExpr)
+BARRED_WORDS = set(
+    "type typing enum Enum IntEnum Flag Generic Protocol ABC namedtuple NamedTuple TypedDict register mro elements"
+    " open input law eval exec globals locals vars id dir help super".split())
+
+
+def sources():
+    for path in sorted(PACKAGE.rglob("*.py")):
+        yield path, path.read_text(encoding="utf-8")
+
+
+class Language(unittest.TestCase):
+    def test_files_and_lines(self):
+        files = [path for path in PACKAGE.rglob("*") if "__pycache__" not in path.parts]
+        self.assertEqual([path for path in files if path.suffix != ".py"], [])
+        for path, text in sources():
+            lines = text.split("\n")
+            self.assertLessEqual(len(lines), 399, path)
+            self.assertLessEqual(max(map(len, lines)), 120, path)
+            self.assertTrue(re.fullmatch(r"[ -~\n]*", text), path)
+            self.assertNotIn("%", text, path)
+
+    def test_functions(self):
+        for path, text in sources():
+            for node in ast.walk(ast.parse(text)):
+                if isinstance(node, ast.FunctionDef):
+                    self.assertLessEqual(node.end_lineno - node.lineno + 1, 40, (path, node.name))
+                    self.assertEqual(node.decorator_list, [], (path, node.name))
+                    self.assertIsNone(node.returns, (path, node.name))
+                    self.assertTrue(not node.name.startswith("__") or node.name in DOUBLE, (path, node.name))
+
+    def test_module_level(self):
+        for path, text in sources():
+            for node in ast.parse(text).body:
+                doc = isinstance(node, ast.Expr) and isinstance(node.value, ast.Constant)
+                kinds = (ast.ImportFrom, ast.FunctionDef, ast.ClassDef, ast.Assign)
+                self.assertTrue(doc or isinstance(node, kinds), (path, node.lineno))
+                if isinstance(node, ast.Assign):
+                    ast.literal_eval(node.value)
+
+    def test_imports(self):
+        defined = {}
+        for path, text in sources():
+            names = set()
+            for node in ast.parse(text).body:
+                names.update([node.name] if hasattr(node, "name") else [])
+                names.update(target.id for target in getattr(node, "targets", []))
+            defined[f"unseenstocks.{path.stem}"] = names
+        for path, text in sources():
+            for node in ast.walk(ast.parse(text)):
+                if isinstance(node, ast.ImportFrom):
+                    for alias in node.names:
+                        self.assertIn(alias.name, defined.get(node.module, ()), (path, node.lineno))
+
+    def test_words(self):
+        for path, text in sources():
+            for node in ast.walk(ast.parse(text)):
+                self.assertNotIsInstance(node, BARRED_NODES, (path, getattr(node, "lineno", 0)))
+                for field in ("id", "attr", "arg", "name"):
+                    self.assertNotIn(getattr(node, field, None), BARRED_WORDS, (path, getattr(node, "lineno", 0)))
+
+    def test_calls(self):
+        for path, text in sources():
+            tree = ast.parse(text)
+            own = {node.name for node in ast.walk(tree) if isinstance(node, (ast.FunctionDef, ast.ClassDef))}
+            own.update(alias.name for node in tree.body if isinstance(node, ast.ImportFrom) for alias in node.names)
+            for node in ast.walk(tree):
+                if not isinstance(node, ast.Call):
+                    continue
+                if isinstance(node.func, ast.Name):
+                    self.assertIn(node.func.id, own | BUILTINS, (path, node.lineno))
+                else:
+                    self.assertIn(node.func.attr, own | METHODS | {"told"}, (path, node.lineno))
+
+
+if __name__ == "__main__":
+    unittest.main()

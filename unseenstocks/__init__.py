@@ -1,0 +1,1 @@
+"""What all shops have in common that fit what was seen of their work."""
