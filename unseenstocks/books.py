@@ -47,8 +47,6 @@ class Book:
         return Book("\n".join(lines[:at] + lines[at + 1:]))
 
     def __or__(self, other):
-        if not isinstance(other, Book):
-            return NotImplemented
         if self.jobs != other.jobs or self.manners != other.manners:
             raise OtherJobs(other)
         book = self
