@@ -1,6 +1,7 @@
 """The rules of the language that can be told of the program's text at a glance."""
 
 import ast
+import builtins
 import pathlib
 import re
 import unittest
@@ -10,12 +11,13 @@ import unseenstocks
 PACKAGE = pathlib.Path(unseenstocks.__file__).parent
 BUILTINS = set(
     "len range enumerate zip min max sum abs sorted reversed int str bool list tuple dict set isinstance ord repr any"
-    " all divmod ValueError NotImplemented".split())
+    " all divmod ValueError TypeError NotImplemented".split())
 METHODS = set(
     "append clear copy count endswith extend find get index insert isalnum isalpha isdigit islower isspace isupper"
     " items join keys ljust lower lstrip partition pop remove replace reverse rfind rjust rpartition rsplit rstrip"
     " setdefault split splitlines startswith strip update upper values zfill bit_length isascii".split())
-DOUBLE = set("__init__ __eq__ __len__ __or__ __contains__".split())
+DOUBLE = set("__init__ __eq__ __len__ __or__ __contains__ __getitem__ __iter__".split())
+LIBRARY = {"math": ("gcd",)}
 BARRED_NODES = (
     ast.AsyncFunctionDef, ast.Global, ast.Await, ast.GeneratorExp, ast.Lambda, ast.Try, ast.Div, ast.Import,
     ast.AnnAssign, ast.Yield, ast.YieldFrom, ast.NamedExpr)
@@ -39,6 +41,7 @@ class Language(unittest.TestCase):
             self.assertLessEqual(max(map(len, lines)), 120, path)
             self.assertTrue(re.fullmatch(r"[ -~\n]*", text), path)
             self.assertNotIn("%", text, path)
+            self.assertFalse(re.search(r"[(]type[)]|Meta|metaclass=", text), path)
 
     def test_functions(self):
         for path, text in sources():
@@ -69,8 +72,9 @@ class Language(unittest.TestCase):
         for path, text in sources():
             for node in ast.walk(ast.parse(text)):
                 if isinstance(node, ast.ImportFrom):
+                    found = LIBRARY.get(node.module, ()) or defined.get(node.module, ())
                     for alias in node.names:
-                        self.assertIn(alias.name, defined.get(node.module, ()), (path, node.lineno))
+                        self.assertIn(alias.name, found, (path, node.lineno))
 
     def test_words(self):
         for path, text in sources():
@@ -79,10 +83,23 @@ class Language(unittest.TestCase):
                 for field in ("id", "attr", "arg", "name"):
                     self.assertNotIn(getattr(node, field, None), BARRED_WORDS, (path, getattr(node, "lineno", 0)))
 
-    def test_calls(self):
+    def test_local_names(self):
         for path, text in sources():
             tree = ast.parse(text)
-            own = {node.name for node in ast.walk(tree) if isinstance(node, (ast.FunctionDef, ast.ClassDef))}
+            taken = set(dir(builtins)) | {node.name for node in tree.body if isinstance(node, ast.ClassDef)}
+            taken.update(alias.name for node in tree.body if isinstance(node, ast.ImportFrom) for alias in node.names)
+            for node in ast.walk(tree):
+                if isinstance(node, ast.arg):
+                    self.assertNotIn(node.arg, taken, (path, node.lineno))
+                if isinstance(node, ast.Name) and isinstance(node.ctx, ast.Store):
+                    self.assertNotIn(node.id, taken, (path, node.lineno))
+
+    def test_calls(self):
+        classes = [node for _, text in sources() for node in ast.parse(text).body if isinstance(node, ast.ClassDef)]
+        methods = {node.name for owner in classes for node in owner.body if isinstance(node, ast.FunctionDef)}
+        for path, text in sources():
+            tree = ast.parse(text)
+            own = {node.name for node in tree.body if hasattr(node, "name")}
             own.update(alias.name for node in tree.body if isinstance(node, ast.ImportFrom) for alias in node.names)
             for node in ast.walk(tree):
                 if not isinstance(node, ast.Call):
@@ -90,7 +107,7 @@ class Language(unittest.TestCase):
                 if isinstance(node.func, ast.Name):
                     self.assertIn(node.func.id, own | BUILTINS, (path, node.lineno))
                 else:
-                    self.assertIn(node.func.attr, own | METHODS | {"told"}, (path, node.lineno))
+                    self.assertIn(node.func.attr, methods | METHODS, (path, node.lineno))
 
 
 if __name__ == "__main__":

@@ -1,4 +1,4 @@
-"""Whether any value has the form of an integer, a name, a standing, a fact or an event.
+"""Whether any value has the form of an integer, a name, a standing, a fact, an event, a stock or a result.
 
 Python takes True for 1, so what is compared with == is first told here to hold no bool.
 """
@@ -21,6 +21,11 @@ def is_number(value, many):
 def is_word(value, words):
     """Whether a value is one of some strings."""
     return isinstance(value, str) and value in words
+
+
+def is_told(value, word, size):
+    """Whether a value is a result of so many parts, the first of which is this word."""
+    return isinstance(value, tuple) and len(value) == size and is_word(value[0], (word,))
 
 
 def is_name(text):
@@ -59,3 +64,33 @@ def is_event(value, jobs):
     if not isinstance(value, tuple) or len(value) != 2:
         return False
     return is_word(value[0], ("begin", "end")) and is_word(value[1], jobs)
+
+
+def is_stock(value, manners):
+    """Whether a value is a stock of a book whose jobs have these manners."""
+    if not isinstance(value, tuple) or len(value) != 2:
+        return False
+    first, changes = value
+    if not is_integer(first) or first < 0:
+        return False
+    if not isinstance(changes, tuple) or len(changes) != len(manners):
+        return False
+    return all([is_change(change, manner) for change, manner in zip(changes, manners)])
+
+
+def is_change(value, manner):
+    """Whether a value can tell how a begin, and an end, of a job of this manner changes a stock."""
+    if not isinstance(value, tuple) or len(value) != 2:
+        return False
+    begin, end = value
+    if not is_integer(begin) or not is_integer(end):
+        return False
+    if manner == "free":
+        return True
+    if begin > 0:
+        return False
+    if manner == "clean":
+        return end == -begin
+    if manner == "spent":
+        return end == 0
+    return end >= 0
