@@ -7,6 +7,7 @@ import itertools
 import random
 
 from unseenstocks.books import Book
+from unseenstocks.mixing import sure
 from unseenstocks.shops import Shop
 
 MANNERS = ("plain", "clean", "spent", "free")
@@ -171,3 +172,56 @@ def seen_of(chance, shop, book, many, most):
         if len([fact for fact in book.facts if fact[0] == kind]) < {"let": 24, "not": 6}[kind]:
             book = book.told((kind, standing))
     return book
+
+
+def with_lets(facts, standings):
+    return facts + tuple(("let", standing) for standing in standings)
+
+
+def are_mixtures(manners, facts, standings, value):
+    if type(value) is not tuple or len(value) != len(standings):
+        return False
+    return all(is_mixture(manners, facts, pairs, mixture) for pairs, mixture in zip(standings, value))
+
+
+def is_weighed(book, facts, wanted, word, value):
+    """Whether a value is always, never or bars (this word), or open, of standings wanted, in shops that fit facts."""
+    manners = manners_of(book)
+    if type(value) is not tuple or not value or type(value[0]) is not str:
+        return False
+    if value[0] == "always" and len(value) == 2:
+        return are_mixtures(manners, facts, wanted, value[1])
+    if value[0] == word and len(value) == 3:
+        return is_barred(manners, with_lets(facts, wanted), *value[1:])
+    if value[0] != "open" or len(value) != 3 or not fits(value[1], book, manners, with_lets(facts, wanted)):
+        return False
+    return fits(value[2], book, manners, facts) and not all(lets(value[2], standing) for standing in wanted)
+
+
+def some_row(chance, jobs, many):
+    """A row of so many events."""
+    row, running = [], []
+    for _ in range(many):
+        if running and chance.randint(0, 1):
+            row.append(("end", running.pop(chance.randrange(len(running)))))
+        else:
+            running.append(chance.choice(jobs))
+            row.append(("begin", running[-1]))
+    return tuple(row)
+
+
+def some_claim(chance, book, most):
+    if chance.randint(0, 1):
+        return ("goes", some_row(chance, book.jobs, min(24, chance.randint(0, most))))
+    return ("lets", some_standing(chance, len(book.jobs), most))
+
+
+def fitted_books(seed, number, many, most, jobs=(1, 2, 3, 4)):
+    """Books that some shop fits: of facts not only those that can be."""
+    found = []
+    for book in some_books(seed, number, many, most, jobs):
+        for at in reversed([at for at, fact in enumerate(book.facts) if fact[0] == "not"]):
+            if sure(book, book.facts[at][1])[0] == "sure":
+                book = book.untold(at)
+        found.append(book)
+    return found

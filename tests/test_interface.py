@@ -1,13 +1,42 @@
 import inspect
+import itertools
 import unittest
 
-from unseenstocks import books, days, fitting, mixing, shops
+from unseenstocks import books, days, explaining, fitting, judging, lasting, mixing, shops, sparing
 from unseenstocks.books import Book
 from unseenstocks.shops import Shop
 
 MODULES = (
     (books, ["Book"]), (days, ["standings", "heard"]), (shops, ["Shop"]), (mixing, ["sure", "shows_sure"]),
     (fitting, ["possible", "shows_possible"]),
+    (judging, ["judged", "shows_judged", "follows", "shows_follows"]), (sparing, ["spare"]),
+    (lasting, ["lasting", "shows_lasting"]),
+    (explaining, ["together", "shows_together", "bars", "fewest", "shows_fewest"]),
+)
+BOOK = Book("jobs ann bob\nclean ann\nlet 2 0 0 0\nlet 0 0 1 0\nnot 3 0 0 0")
+SHOP = Shop(BOOK, ((4, ((-2, 2), (-1, 0))), (1, ((0, 0), (-1, 1)))))
+STANDING, ROW, LAP = ((1, 0), (1, 0)), (("begin", "ann"), ("begin", "ann")), (("begin", "bob"), ("end", "bob"))
+CLAIM, OTHER = ("lets", STANDING), ("goes", ROW)
+CALLS = (
+    (Book, {"text": BOOK.text}), (BOOK.manner, {"job": "ann"}), (BOOK.told, {"fact": ("let", STANDING)}),
+    (BOOK.untold, {"number": 2}), (days.standings, {"book": BOOK, "row": ROW}),
+    (days.heard, {"book": BOOK, "day": LAP + (("as", 1),)}), (Shop, {"book": BOOK, "stocks": SHOP.stocks}),
+    (SHOP.level, {"number": 1, "standing": STANDING}), (SHOP.lets, {"standing": STANDING}), (SHOP.stop, {"row": ROW}),
+    (SHOP.broken, {"book": BOOK}), (SHOP.fits, {"book": BOOK}), (mixing.sure, {"book": BOOK, "standing": STANDING}),
+    (mixing.shows_sure, {"book": BOOK, "standing": STANDING, "value": mixing.sure(BOOK, STANDING)}),
+    (fitting.possible, {"book": BOOK}), (fitting.shows_possible, {"book": BOOK, "value": fitting.possible(BOOK)}),
+    (judging.judged, {"book": BOOK, "claim": CLAIM}),
+    (judging.shows_judged, {"book": BOOK, "claim": CLAIM, "value": judging.judged(BOOK, CLAIM)}),
+    (judging.follows, {"book": BOOK, "claim": CLAIM, "other": OTHER}),
+    (judging.shows_follows,
+     {"book": BOOK, "claim": CLAIM, "other": OTHER, "value": judging.follows(BOOK, CLAIM, OTHER)}),
+    (sparing.spare, {"book": BOOK, "standing": BOOK.first, "job": "bob"}),
+    (lasting.lasting, {"book": BOOK, "lap": LAP}),
+    (lasting.shows_lasting, {"book": BOOK, "lap": LAP, "value": lasting.lasting(BOOK, LAP)}),
+    (explaining.together, {"book": BOOK, "lot": (2,)}),
+    (explaining.shows_together, {"book": BOOK, "lot": (2,), "value": explaining.together(BOOK, (2,))}),
+    (explaining.bars, {"book": BOOK}), (explaining.fewest, {"book": BOOK}),
+    (explaining.shows_fewest, {"book": BOOK, "value": explaining.fewest(BOOK)}),
 )
 
 
@@ -33,23 +62,24 @@ class Interface(unittest.TestCase):
         for name in ("jobs", "stocks"):
             self.assertIn(name, vars(Shop(Book("jobs a"), ())))
 
-    def test_names_of_arguments(self):
-        self.assertEqual(parameters(Book), ["text"])
-        self.assertEqual(parameters(Book.manner), ["self", "job"])
-        self.assertEqual(parameters(Book.told), ["self", "fact"])
-        self.assertEqual(parameters(Book.untold), ["self", "number"])
-        self.assertEqual(parameters(days.standings), ["book", "row"])
-        self.assertEqual(parameters(days.heard), ["book", "day"])
-        self.assertEqual(parameters(Shop), ["book", "stocks"])
-        self.assertEqual(parameters(Shop.level), ["self", "number", "standing"])
-        self.assertEqual(parameters(Shop.lets), ["self", "standing"])
-        self.assertEqual(parameters(Shop.stop), ["self", "row"])
-        self.assertEqual(parameters(Shop.broken), ["self", "book"])
-        self.assertEqual(parameters(Shop.fits), ["self", "book"])
-        self.assertEqual(parameters(mixing.sure), ["book", "standing"])
-        self.assertEqual(parameters(mixing.shows_sure), ["book", "standing", "value"])
-        self.assertEqual(parameters(fitting.possible), ["book"])
-        self.assertEqual(parameters(fitting.shows_possible), ["book", "value"])
+    def test_arguments_by_position_and_by_name_in_any_sequence(self):
+        for call, named in CALLS:
+            names = [name for name in parameters(call) if name != "self"]
+            self.assertEqual(names, list(named))
+            told = call(*named.values())
+            for order in itertools.permutations(named):
+                self.assertEqual(call(**{name: named[name] for name in order}), told)
+            for many in range(len(named)):
+                behind = {name: named[name] for name in names[many:]}
+                self.assertEqual(call(*list(named.values())[:many], **behind), told)
+            if call.__name__.startswith("shows_"):
+                self.assertIs(told, True)
+
+    def test_every_call_is_tried(self):
+        tried = [call.__name__ for call, _ in CALLS]
+        for _, names in MODULES:
+            for name in names:
+                self.assertIn(name, tried)
 
 
 if __name__ == "__main__":

@@ -19,7 +19,7 @@ METHODS = set(
 DOUBLE = set("__init__ __eq__ __len__ __or__ __contains__ __getitem__ __iter__".split())
 LIBRARY = {"math": ("gcd",)}
 BARRED_NODES = (
-    ast.AsyncFunctionDef, ast.Global, ast.Await, ast.GeneratorExp, ast.Lambda, ast.Try, ast.Div, ast.Import,
+    ast.AsyncFunctionDef, ast.Global, ast.Await, ast.GeneratorExp, ast.Try, ast.Div, ast.Import,
     ast.AnnAssign, ast.Yield, ast.YieldFrom, ast.NamedExpr)
 BARRED_WORDS = set(
     "type typing enum Enum IntEnum Flag Generic Protocol ABC namedtuple NamedTuple TypedDict register mro elements"
@@ -101,6 +101,7 @@ class Language(unittest.TestCase):
             tree = ast.parse(text)
             own = {node.name for node in tree.body if hasattr(node, "name")}
             own.update(alias.name for node in tree.body if isinstance(node, ast.ImportFrom) for alias in node.names)
+            own.update(node.arg for node in ast.walk(tree) if isinstance(node, ast.arg))
             for node in ast.walk(tree):
                 if not isinstance(node, ast.Call):
                     continue

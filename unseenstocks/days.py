@@ -9,13 +9,21 @@ MOST_NOTES = 24
 
 def standings(book, row):
     """The standings behind the events of a row, one for each."""
-    if not isinstance(row, tuple) or len(row) > MOST_EVENTS:
+    passed = row_standings(book, row)
+    if passed is None:
         raise BadRow(row)
+    return passed
+
+
+def row_standings(book, value):
+    """The standings behind the events of a value, or None if it is no row."""
+    if not isinstance(value, tuple) or len(value) > MOST_EVENTS:
+        return None
     passed = [book.first]
-    for event in row:
+    for event in value:
         standing = behind(book, passed[-1], event)
         if standing is None:
-            raise BadRow(row)
+            return None
         passed.append(standing)
     return tuple(passed[1:])
 

@@ -3,7 +3,7 @@
 from unseenstocks.errors import NoShop
 from unseenstocks.forms import is_number, is_told
 from unseenstocks.mixing import is_right, proof
-from unseenstocks.shops import Shop
+from unseenstocks.shops import Shop, is_so
 
 
 def possible(book):
@@ -17,7 +17,7 @@ def possible(book):
 def shows_possible(book, value):
     """Whether any value is a result of possible."""
     if is_told(value, "shop", 2):
-        return is_fitting(book, value[1])
+        return is_fitting(book, book.facts, value[1])
     return is_told(value, "barred", 3) and is_barred(book.manners, book.facts, value[1], value[2])
 
 
@@ -44,11 +44,11 @@ def fitting_stocks(book):
     return found[1]
 
 
-def is_fitting(book, value):
-    """Whether a value is a Shop that fits a book."""
+def is_fitting(book, facts, value):
+    """Whether a value is a Shop of the jobs of a book in which some facts are so."""
     if not isinstance(value, Shop) or value.jobs != book.jobs or value.manners != book.manners:
         return False
-    return value.fits(book)
+    return all([is_so(value.stocks, fact) for fact in facts])
 
 
 def is_barred(manners, facts, number, mixture):

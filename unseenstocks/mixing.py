@@ -50,6 +50,24 @@ def proof(manners, facts, aim):
     return ("sure", (shares[0], weights, backs))
 
 
+def proofs(manners, facts, standings):
+    """("always", mixtures) with right ones of all standings, or ("stock", number, stock) of the first not sure."""
+    mixtures = []
+    for number, standing in enumerate(standings):
+        word, found = proof(manners, facts, (1, standing))
+        if word == "stock":
+            return ("stock", number, found)
+        mixtures.append(found)
+    return ("always", tuple(mixtures))
+
+
+def are_right(manners, facts, standings, value):
+    """Whether a value is a tuple of right mixtures, one for each standing."""
+    if not isinstance(value, tuple) or len(value) != len(standings):
+        return False
+    return all([is_right(manners, facts, (1, pairs), mixture) for pairs, mixture in zip(standings, value)])
+
+
 def is_right(manners, facts, aim, value):
     """Whether a value is a right mixture of an aim."""
     if not isinstance(value, tuple) or len(value) != 3:
