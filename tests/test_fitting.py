@@ -112,8 +112,10 @@ class Shows(unittest.TestCase):
 
     def test_shops_of_other_books(self):
         book = Book("jobs a b\nclean a")
-        for text, right in (("jobs a b\nclean a", True), ("jobs a b", False), ("jobs b a\nclean a", False), ("jobs a", False),
-                            ("jobs a b\nclean a\nlet 9 0 9 0\nnot 1 0 1 0", True), ("jobs a b\nclean b", False)):
+        for text, right in (
+                ("jobs a b\nclean a", True), ("jobs a b", False), ("jobs b a\nclean a", False), ("jobs a", False),
+                ("jobs a b\nclean a\nlet 9 0 9 0\nnot 1 0 1 0", True), ("jobs a b\nclean b", False),
+                ("jobs a c\nclean a", False), ("jobs b a\nclean b", False)):
             self.assertIs(shows_possible(book, ("shop", Shop(Book(text), ()))), right)
 
     def test_barred_with_any_fact_not_and_mixture(self):

@@ -198,6 +198,12 @@ class Results(unittest.TestCase):
                                       (2, ((0, 3),), False), (3, ((0, 3),), True), (3, ((0, 2), (1, 1)), False)):
             self.assertIs(shows_sure(book, ((1, 0),), ("sure", (times, weights, ()))), right)
 
+    def test_weights_are_from_one_on_and_backs_anything_but_zero(self):
+        book = Book("jobs a\nclean a\nlet 1 1\nas 1 0 to 2 1")
+        for amount in (-BIG, -2, -1, 0, 1, 2, BIG):
+            self.assertIs(shows_sure(book, ((3, 3),), ("sure", (BIG, ((0, amount),), ()))), amount > 0)
+            self.assertIs(shows_sure(book, ((3, 3),), ("sure", (1, (), ((1, amount),)))), amount != 0)
+
     def test_great_numbers(self):
         mixture = (2 * BIG, ((0, BIG),), ())
         self.assertIs(shows_sure(BOOK, ((1, 0), (0, 0)), ("sure", mixture)), True)

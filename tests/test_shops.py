@@ -217,7 +217,8 @@ class Facts(unittest.TestCase):
     def test_other_jobs(self):
         shop = Shop(BOOK, STOCKS)
         for text in ("jobs ann bob", "jobs bob ann\nclean ann", "jobs ann\nclean ann", "jobs ann bob\nclean bob",
-                     "jobs ann bob\nspent ann", "jobs ann bob\nclean ann\nfree bob", "jobs ann bob cat\nclean ann"):
+                     "jobs ann bob\nspent ann", "jobs ann bob\nclean ann\nfree bob", "jobs ann bob cat\nclean ann",
+                     "jobs ann cat\nclean ann", "jobs cat bob\nclean cat", "jobs bob ann\nclean bob"):
             book = Book(text)
             for call in (shop.broken, shop.fits):
                 with self.assertRaises(OtherJobs) as caught:
@@ -243,7 +244,8 @@ class Together(unittest.TestCase):
         self.assertEqual(caught.exception.value, STOCKS * 6 + STOCKS[:1])
 
     def test_other_jobs_come_ahead_of_too_many(self):
-        for text in ("jobs ann bob", "jobs bob ann\nclean ann", "jobs ann bob\nclean bob", "jobs ann\nclean ann"):
+        for text in ("jobs ann bob", "jobs bob ann\nclean ann", "jobs ann bob\nclean bob", "jobs ann\nclean ann",
+                     "jobs ann cat\nclean ann", "jobs bob ann\nclean bob"):
             stock = (0, ((0, 0),) * (len(text.split("\n")[0].split(" ")) - 1))
             other = Shop(Book(text), (stock,) * 12)
             with self.assertRaises(OtherJobs) as caught:

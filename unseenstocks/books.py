@@ -18,6 +18,7 @@ class Book:
         self.text = text
         self.jobs = read_jobs(lines[0])
         lined = read_manners(lines, self.jobs)
+        self.head = "\n".join(lines[:1 + len(lined)])
         self.manners = tuple([lined.get(job, "plain") for job in self.jobs])
         self.first = ((0, 0),) * len(self.jobs)
         self.facts = read_facts(lines, 1 + len(lined), len(self.jobs))
@@ -32,11 +33,7 @@ class Book:
         """The Book with a fact behind the others, or this one if it has the fact."""
         if not is_fact(fact, len(self.jobs)):
             raise BadFact(fact)
-        if fact in self.facts:
-            return self
-        if is_full(self.facts, fact[0]):
-            raise Full(MOST_TOLD[fact[0]])
-        return Book(f"{self.text}\n{fact_line(fact)}")
+        return grown(self, [fact])
 
     def untold(self, number):
         """The Book without the fact with a number."""
@@ -44,15 +41,12 @@ class Book:
             raise NoFact(number)
         lines = self.text.split("\n")
         at = len(lines) - len(self.facts) + number
-        return Book("\n".join(lines[:at] + lines[at + 1:]))
+        return remade(self, lines[:at] + lines[at + 1:], self.facts[:number] + self.facts[number + 1:])
 
     def __or__(self, other):
         if self.jobs != other.jobs or self.manners != other.manners:
             raise OtherJobs(other)
-        book = self
-        for fact in other.facts:
-            book = book.told(fact)
-        return book
+        return grown(self, other.facts)
 
     def __contains__(self, x):
         return is_fact(x, len(self.jobs)) and x in self.facts
@@ -62,6 +56,32 @@ class Book:
 
     def __eq__(self, other):
         return isinstance(other, Book) and self.text == other.text
+
+
+def grown(book, facts):
+    """The Book with some facts of its jobs behind its own, told one by one, or this one if it has all of them."""
+    known = list(book.facts)
+    lines = [book.text]
+    for fact in facts:
+        if fact not in known:
+            if is_full(known, fact[0]):
+                raise Full(MOST_TOLD[fact[0]])
+            known.append(fact)
+            lines.append(fact_line(fact))
+    if len(lines) == 1:
+        return book
+    return remade(book, lines, tuple(known))
+
+
+def remade(book, lines, facts):
+    """The Book of these lines, which tell these facts of the jobs of a book.
+
+    Only what is ahead of the facts is read anew: reading all facts again takes most of the time of telling one.
+    """
+    made = Book(book.head)
+    made.text = "\n".join(lines)
+    made.facts = facts
+    return made
 
 
 def is_full(facts, kind):

@@ -1,5 +1,6 @@
 """Rows of events, and days of notes that tell a book facts."""
 
+from unseenstocks.books import grown
 from unseenstocks.errors import BadDay, BadRow
 from unseenstocks.forms import is_event, is_number, is_word
 
@@ -46,10 +47,7 @@ def behind(book, standing, event):
 
 def heard(book, day):
     """The Book with the facts of the notes of a day."""
-    grown = book
-    for fact in day_facts(book, day):
-        grown = grown.told(fact)
-    return grown
+    return grown(book, day_facts(book, day))
 
 
 def day_facts(book, day):
