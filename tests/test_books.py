@@ -1,9 +1,11 @@
 import itertools
+import random
 import re
 import unittest
 
 from tests.values import any_values, spoiled, standing_pairs
 from unseenstocks.books import Book
+from unseenstocks.days import heard
 from unseenstocks.errors import BadBook, BadFact, Full, NoFact, NoJob, OtherJobs
 
 SAMPLE = "jobs ann bob\nclean ann\nlet 2 0 0 0\nlet 0 0 1 0\nnot 3 0 0 0"
@@ -403,6 +405,50 @@ class Changed(BookCase):
         less = one.untold([fact[0] for fact in one.facts].index("let"))
         other = Book(text_of("ab", [], [last["let"], last["not"], last["as"]]))
         self.check_raises(Full, 6, less.__or__, other)
+
+
+class HoweverItCameAbout(unittest.TestCase):
+    def check_as_read(self, book):
+        read = Book(book.text)
+        self.assertEqual((book.jobs, book.first, book.facts, len(book)), (read.jobs, read.first, read.facts, len(read)))
+        self.assertEqual([book.manner(job) for job in book.jobs], [read.manner(job) for job in read.jobs])
+        self.assertEqual(sorted(vars(book)), sorted(vars(read)))
+        self.assertTrue(book == read and type(book) is Book)
+        self.assertTrue(all(fact in book for fact in read.facts))
+
+    def test_chains_of_deeds(self):
+        chance = random.Random(7)
+        full = 0
+        for _ in range(60):
+            names = NAMES[:chance.randint(1, 4)]
+            lined = [(job, chance.choice(("clean", "spent", "free"))) for job in names if chance.randint(0, 1)]
+            chance.shuffle(lined)
+            facts = all_facts(len(names))
+            books = [Book(text_of(names, lined, chance.sample(facts, chance.randint(0, 34)))) for _ in range(2)]
+            for _ in range(12):
+                book, other = chance.choice(books), chance.choice(books)
+                before = [(one, one.text, one.facts) for one in (book, other)]
+                day = [("begin", chance.choice(names)) for _ in range(3)] + [("as", chance.randint(0, 3))]
+                deeds = [lambda: book.told(chance.choice(facts)), lambda: book | other, lambda: heard(book, tuple(day))]
+                if len(book) > 0:
+                    deeds.append(lambda: book.untold(chance.randrange(len(book))))
+                try:
+                    books.append(chance.choice(deeds)())
+                except Full:
+                    full += 1
+                self.check_as_read(books[-1])
+                for one, text, held in before:
+                    self.assertEqual((one.text, one.facts), (text, held))
+        self.assertGreater(full, 5)
+
+    def test_a_day_is_told_fact_by_fact(self):
+        book = Book(SAMPLE)
+        day = (("begin", "bob"), ("begin", "ann"), ("begin", "ann"), ("no", "begin", "ann"), ("end", "ann"), ("as", 2))
+        told = book
+        for fact in heard(Book("jobs ann bob\nclean ann"), day).facts:
+            told = told.told(fact)
+        self.assertEqual(heard(book, day), told)
+        self.check_as_read(heard(book, day))
 
 
 if __name__ == "__main__":

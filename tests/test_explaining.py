@@ -248,6 +248,20 @@ class Fewest(unittest.TestCase):
             self.assertIs(shows_fewest(book, (kinds + 2, possible(book)[1])), False)
             self.assertEqual(len([lot for lot in bars(book) if len(lot) == 2]) >= kinds * (kinds - 1) // 2, True)
 
+    def test_the_greatest_lots_are_not_always_the_best(self):
+        jobs = "jobs a b c\nspent a\nspent b\nspent c\n"
+        book = Book(
+            jobs + "let 3 0 0 0 3 0\nlet 0 0 2 0 1 0\nlet 0 0 2 0 0 0\nlet 3 0 0 0 0 0\nlet 2 0 2 0 3 0\nlet 2 0 0 0 1 0\n"
+            "not 0 0 4 0 3 0\nnot 0 0 1 0 4 0\nnot 3 0 3 0 1 0\nnot 4 0 4 0 0 0\nnot 4 0 1 0 4 0\nnot 4 0 0 0 0 0")
+        facts = list(book.facts)
+        for start in range(6):
+            turned = Book(jobs.rstrip("\n"))
+            for fact in facts[:6] + facts[6 + start:] + facts[6:6 + start]:
+                turned = turned.told(fact)
+            told = fewest(turned)
+            self.assertEqual((told[0], fewest_of(turned, words_of(turned))), (2, 2))
+            self.assertIs(shows_fewest(turned, told), True)
+
     def test_never_more_than_a_shop_that_was_seen(self):
         chance = random.Random(177)
         for book in some_books(178, 40, (0, 0, 1), 3, (1, 2, 3)):
