@@ -225,3 +225,22 @@ def fitted_books(seed, number, many, most, jobs=(1, 2, 3, 4)):
                 book = book.untold(at)
         found.append(book)
     return found
+
+
+def seen_books(seed, number, jobs=(1, 2, 3, 4), most=3):
+    """Books of what was seen of shops with one stock, most near to its end, with changes at most events."""
+    chance = random.Random(seed)
+    books = []
+    for book in some_books(seed, number, (0, 0, 0), most, jobs):
+        changes = []
+        for manner in manners_of(book):
+            pairs = [pair for pair in itertools.product((-1, 0, 1), repeat=2) if CHANGES[manner](*pair)]
+            changes.append(chance.choice(sorted(pairs, key=lambda pair: pair.count(0))[:3]))
+        stock = (chance.randint(0, 2), tuple(changes))
+        for _ in range(chance.choice((10, 100, 200))):
+            standing = some_standing(chance, len(book.jobs), most)
+            kind = {0: "let", -1: "not"}.get(level(stock, standing))
+            if kind is not None and book.text.count(kind) < {"let": 24, "not": 2}[kind]:
+                book = book.told((kind, standing))
+        books.append(book)
+    return books

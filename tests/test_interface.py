@@ -2,7 +2,8 @@ import inspect
 import itertools
 import unittest
 
-from unseenstocks import books, days, explaining, fitting, judging, lasting, mixing, shops, sparing
+from unseenstocks import (
+    books, comparing, days, explaining, fitting, hanging, judging, lasting, mixing, planning, shops, sparing)
 from unseenstocks.books import Book
 from unseenstocks.shops import Shop
 
@@ -11,12 +12,14 @@ MODULES = (
     (fitting, ["possible", "shows_possible"]),
     (judging, ["judged", "shows_judged", "follows", "shows_follows"]), (sparing, ["spare"]),
     (lasting, ["lasting", "shows_lasting"]),
-    (explaining, ["together", "shows_together", "bars", "fewest", "shows_fewest"]),
+    (explaining, ["together", "shows_together", "bars", "fewest", "shows_fewest"]), (hanging, ["hangs", "shows_hangs"]),
+    (comparing, ["within", "shows_within", "alike", "shows_alike", "needless"]), (planning, ["plan", "shows_plan"]),
 )
 BOOK = Book("jobs ann bob\nclean ann\nlet 2 0 0 0\nlet 0 0 1 0\nnot 3 0 0 0")
 SHOP = Shop(BOOK, ((4, ((-2, 2), (-1, 0))), (1, ((0, 0), (-1, 1)))))
 STANDING, ROW, LAP = ((1, 0), (1, 0)), (("begin", "ann"), ("begin", "ann")), (("begin", "bob"), ("end", "bob"))
 CLAIM, OTHER = ("lets", STANDING), ("goes", ROW)
+FEWER, TASKS = BOOK.untold(2), (("ann", 2), ("bob", 1), ("ann", 1), ("ann", 1))
 CALLS = (
     (Book, {"text": BOOK.text}), (BOOK.manner, {"job": "ann"}), (BOOK.told, {"fact": ("let", STANDING)}),
     (BOOK.untold, {"number": 2}), (days.standings, {"book": BOOK, "row": ROW}),
@@ -37,11 +40,26 @@ CALLS = (
     (explaining.shows_together, {"book": BOOK, "lot": (2,), "value": explaining.together(BOOK, (2,))}),
     (explaining.bars, {"book": BOOK}), (explaining.fewest, {"book": BOOK}),
     (explaining.shows_fewest, {"book": BOOK, "value": explaining.fewest(BOOK)}),
+    (hanging.hangs, {"book": BOOK, "events": ROW[:1]}),
+    (hanging.shows_hangs, {"book": BOOK, "events": ROW[:1], "value": hanging.hangs(BOOK, ROW[:1])}),
+    (comparing.within, {"one": BOOK, "other": FEWER}),
+    (comparing.shows_within, {"one": BOOK, "other": FEWER, "value": comparing.within(BOOK, FEWER)}),
+    (comparing.alike, {"one": BOOK, "other": FEWER}),
+    (comparing.shows_alike, {"one": BOOK, "other": FEWER, "value": comparing.alike(BOOK, FEWER)}),
+    (comparing.needless, {"book": BOOK}),
+    (planning.plan, {"book": BOOK, "tasks": TASKS}), (planning.plan, {"book": BOOK, "tasks": TASKS, "every": False}),
+    (planning.shows_plan, {"book": BOOK, "tasks": TASKS, "value": planning.plan(BOOK, TASKS)}),
+    (planning.shows_plan,
+     {"book": BOOK, "tasks": TASKS, "value": planning.plan(BOOK, TASKS, every=0), "every": False}),
 )
+BEHIND_THE_STAR = {"every": True}
 
 
 def parameters(call):
-    return list(inspect.signature(call).parameters)
+    """The names of the arguments of a call, those that are passed by position alone or behind a star apart."""
+    found = inspect.signature(call).parameters.values()
+    return ([one.name for one in found if one.kind is one.POSITIONAL_OR_KEYWORD],
+            {one.name: one.default for one in found if one.kind is not one.POSITIONAL_OR_KEYWORD})
 
 
 class Interface(unittest.TestCase):
@@ -64,14 +82,15 @@ class Interface(unittest.TestCase):
 
     def test_arguments_by_position_and_by_name_in_any_sequence(self):
         for call, named in CALLS:
-            names = [name for name in parameters(call) if name != "self"]
-            self.assertEqual(names, list(named))
-            told = call(*named.values())
+            names, starred = parameters(call)
+            self.assertEqual([name for name in named if name not in BEHIND_THE_STAR], names)
+            self.assertEqual(starred, {name: default for name, default in BEHIND_THE_STAR.items() if name in starred})
+            told = call(**named)
             for order in itertools.permutations(named):
                 self.assertEqual(call(**{name: named[name] for name in order}), told)
-            for many in range(len(named)):
-                behind = {name: named[name] for name in names[many:]}
-                self.assertEqual(call(*list(named.values())[:many], **behind), told)
+            for many in range(len(names) + 1):
+                behind = {name: named[name] for name in named if name not in names[:many]}
+                self.assertEqual(call(*[named[name] for name in names[:many]], **behind), told)
             if call.__name__.startswith("shows_"):
                 self.assertIs(told, True)
 

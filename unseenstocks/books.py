@@ -1,7 +1,7 @@
 """Books: the jobs of a shop, their manners, and the facts that were seen."""
 
 from unseenstocks.errors import BadBook, BadFact, Full, NoFact, NoJob, OtherJobs
-from unseenstocks.forms import MOST_TOLD, is_fact, is_name, is_number, is_word
+from unseenstocks.forms import MOST_TOLD, is_fact, is_name, is_number, is_numeral, is_word
 
 MOST_JOBS = 4
 LINED_MANNERS = ("clean", "spent", "free")
@@ -158,8 +158,6 @@ def read_standing(words):
 
 def read_count(word):
     """The number that a word tells; of one that tells none, or over two figures, what no standing has."""
-    if not (word.isascii() and word.isdigit()) or len(word) > 2:
-        return NO_COUNT
-    if len(word) == 2 and word[0] == "0":
+    if not is_numeral(word) or len(word) > 2:
         return NO_COUNT
     return int(word)

@@ -28,6 +28,11 @@ def is_told(value, word, size):
     return isinstance(value, tuple) and len(value) == size and is_word(value[0], (word,))
 
 
+def is_numeral(text):
+    """Whether a string is an integer from 0 on, without zeros ahead."""
+    return text.isascii() and text.isdigit() and (text == "0" or text[0] != "0")
+
+
 def is_name(text):
     """Whether a string can be the name of a job."""
     return 1 <= len(text) <= LONGEST_NAME and all(["a" <= letter <= "z" for letter in text])

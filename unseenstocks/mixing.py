@@ -43,7 +43,12 @@ def shows_sure(book, standing, value):
 
 def proof(manners, facts, aim):
     """What sure tells of an aim: a right mixture of it, or a stock that keeps the facts and is below 0 there."""
-    found = parted(basic_stocks(manners), facts, [aim])
+    return proof_by(basic_stocks(manners), facts, aim)
+
+
+def proof_by(basics, facts, aim):
+    """What proof tells where all stocks are sums of some basic ones."""
+    found = parted(basics, facts, [aim])
     if found[0] == "stock":
         return found
     shares, weights, backs = found[1]
@@ -70,12 +75,16 @@ def are_right(manners, facts, standings, value):
 
 def is_right(manners, facts, aim, value):
     """Whether a value is a right mixture of an aim."""
+    return is_right_by(basic_stocks(manners), facts, aim, value)
+
+
+def is_right_by(basics, facts, aim, value):
+    """Whether a value is a right mixture of an aim where all stocks are sums of some basic ones."""
     if not isinstance(value, tuple) or len(value) != 3:
         return False
     times, weights, backs = value
     if not is_integer(times) or times < 1 or not are_parts(weights, backs, facts):
         return False
-    basics = basic_stocks(manners)
     whole = [times * level for level in levels(basics, aim)]
     return is_enough(basics, facts, whole, weights + backs)
 
