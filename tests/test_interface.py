@@ -3,8 +3,11 @@ import itertools
 import unittest
 
 from unseenstocks import (
-    books, comparing, days, explaining, fitting, hanging, judging, lasting, mixing, planning, shops, sparing)
+    benches, books, comparing, days, desk, explaining, fitting, hanging, journals, judging, lasting, mixing, planning, shops,
+    sparing, trying)
+from unseenstocks.benches import Bench
 from unseenstocks.books import Book
+from unseenstocks.desk import Desk
 from unseenstocks.shops import Shop
 
 MODULES = (
@@ -14,11 +17,14 @@ MODULES = (
     (lasting, ["lasting", "shows_lasting"]),
     (explaining, ["together", "shows_together", "bars", "fewest", "shows_fewest"]), (hanging, ["hangs", "shows_hangs"]),
     (comparing, ["within", "shows_within", "alike", "shows_alike", "needless"]), (planning, ["plan", "shows_plan"]),
+    (trying, ["trials", "shows_trials"]), (benches, ["Bench"]), (journals, ["journal", "read_journal"]), (desk, ["Desk"]),
 )
 BOOK = Book("jobs ann bob\nclean ann\nlet 2 0 0 0\nlet 0 0 1 0\nnot 3 0 0 0")
 SHOP = Shop(BOOK, ((4, ((-2, 2), (-1, 0))), (1, ((0, 0), (-1, 1)))))
 STANDING, ROW, LAP = ((1, 0), (1, 0)), (("begin", "ann"), ("begin", "ann")), (("begin", "bob"), ("end", "bob"))
 CLAIM, OTHER = ("lets", STANDING), ("goes", ROW)
+OFFERS, BENCH = (((("begin", "bob"),) * 2, 2), ((("begin", "bob"), ("begin", "ann")), 3)), Bench(BOOK)
+JOURNAL = BOOK.text + "\nseen\nbegin ann"
 FEWER, TASKS = BOOK.untold(2), (("ann", 2), ("bob", 1), ("ann", 1), ("ann", 1))
 CALLS = (
     (Book, {"text": BOOK.text}), (BOOK.manner, {"job": "ann"}), (BOOK.told, {"fact": ("let", STANDING)}),
@@ -51,8 +57,18 @@ CALLS = (
     (planning.shows_plan, {"book": BOOK, "tasks": TASKS, "value": planning.plan(BOOK, TASKS)}),
     (planning.shows_plan,
      {"book": BOOK, "tasks": TASKS, "value": planning.plan(BOOK, TASKS, every=0), "every": False}),
+    (trying.trials, {"book": BOOK, "offers": OFFERS, "claim": CLAIM}),
+    (trying.shows_trials,
+     {"book": BOOK, "offers": OFFERS, "claim": CLAIM, "value": trying.trials(BOOK, OFFERS, CLAIM)}),
+    (Bench, {"book": BOOK}), (BENCH.judged, {"claim": CLAIM}), (BENCH.coming, {}), (BENCH.copy, {}),
+    (BENCH.tried, {"look": Bench.coming}), (BENCH.tried, {"look": Bench.coming, "keep": True}),
+    (journals.journal, {"bench": BENCH}), (journals.read_journal, {"text": JOURNAL}),
 )
-BEHIND_THE_STAR = {"every": True}
+BEHIND_THE_STAR = {"every": True, "keep": False}
+# What changes a bench, or is asked of a desk: each on one of its own.
+DEEDS = (
+    ("let", {"event": ("begin", "ann")}), ("refuse", {"event": ("begin", "bob")}), ("same", {"number": 1}), ("morning", {}),
+    ("undo", {}), ("redo", {}), ("tried", {"look": Bench.morning, "keep": True}), ("tried", {"look": Bench.morning}))
 
 
 def parameters(call):
@@ -71,6 +87,10 @@ class Interface(unittest.TestCase):
     def test_methods_stand_in_the_class_itself(self):
         for name in ("manner", "told", "untold", "__len__", "__contains__", "__or__", "__eq__"):
             self.assertIn(name, vars(Book))
+        for name in ("let", "refuse", "same", "morning", "judged", "coming", "undo", "redo", "trial", "keep", "tried", "copy",
+                     "__eq__"):
+            self.assertIn(name, vars(Bench))
+        self.assertIn("say", vars(Desk))
         for name in ("level", "lets", "stop", "broken", "fits", "__or__", "__len__", "__getitem__", "__eq__"):
             self.assertIn(name, vars(Shop))
 
@@ -79,6 +99,9 @@ class Interface(unittest.TestCase):
             self.assertIn(name, vars(Book("jobs a")))
         for name in ("jobs", "stocks"):
             self.assertIn(name, vars(Shop(Book("jobs a"), ())))
+        for name in ("book", "row", "done"):
+            self.assertIn(name, vars(Bench(Book("jobs a"))))
+        self.assertIn("bench", vars(Desk("jobs a\nseen")))
 
     def test_arguments_by_position_and_by_name_in_any_sequence(self):
         for call, named in CALLS:
@@ -94,8 +117,37 @@ class Interface(unittest.TestCase):
             if call.__name__.startswith("shows_"):
                 self.assertIs(told, True)
 
+    def test_deeds_by_position_and_by_name(self):
+        for name, named in DEEDS:
+            found = []
+            for by_name in (False, True):
+                bench = journals.read_journal(JOURNAL + "\nmorning\nbegin ann\nmorning")
+                bench.undo()
+                names, starred = parameters(getattr(bench, name))
+                self.assertEqual([one for one in named if one != "keep"], names)
+                self.assertEqual(starred, {one: False for one in starred if one == "keep"})
+                behind = {one: named[one] for one in named if by_name or one not in names}
+                self.assertIsNone(getattr(bench, name)(*[named[one] for one in names if not by_name], **behind))
+                found.append((bench.row, bench.done, journals.journal(bench)))
+            self.assertEqual(found[0], found[1])
+
+    def test_desks_by_position_and_by_name(self):
+        for desk_made in (Desk(JOURNAL), Desk(text=JOURNAL)):
+            self.assertEqual((parameters(Desk)[0], parameters(desk_made.say)[0]), (["text"], ["line"]))
+            self.assertEqual([desk_made.say("spare ann"), desk_made.say(line="spare ann")], ["1 1", "1 1"])
+            self.assertEqual([desk_made.say(line="undo"), desk_made.say("redo")], ["ok", "ok"])
+
+    def test_keep_and_trial(self):
+        bench = Bench(BOOK)
+        self.assertEqual((parameters(bench.trial), parameters(bench.keep)), (([], {}), ([], {})))
+        with bench.trial() as held:
+            self.assertIs(held, bench)
+            self.assertIsNone(bench.morning())
+            self.assertIsNone(bench.keep())
+        self.assertEqual(bench.done, 1)
+
     def test_every_call_is_tried(self):
-        tried = [call.__name__ for call, _ in CALLS]
+        tried = [call.__name__ for call, _ in CALLS] + ["Desk"]
         for _, names in MODULES:
             for name in names:
                 self.assertIn(name, tried)

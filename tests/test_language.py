@@ -7,6 +7,7 @@ import re
 import unittest
 
 import unseenstocks
+from unseenstocks import errors
 
 PACKAGE = pathlib.Path(unseenstocks.__file__).parent
 BUILTINS = set(
@@ -16,10 +17,10 @@ METHODS = set(
     "append clear copy count endswith extend find get index insert isalnum isalpha isdigit islower isspace isupper"
     " items join keys ljust lower lstrip partition pop remove replace reverse rfind rjust rpartition rsplit rstrip"
     " setdefault split splitlines startswith strip update upper values zfill bit_length isascii".split())
-DOUBLE = set("__init__ __eq__ __len__ __or__ __contains__ __getitem__ __iter__".split())
+DOUBLE = set("__init__ __eq__ __len__ __or__ __contains__ __getitem__ __iter__ __enter__ __exit__".split())
 LIBRARY = {"math": ("gcd",)}
 BARRED_NODES = (
-    ast.AsyncFunctionDef, ast.Global, ast.Await, ast.GeneratorExp, ast.Try, ast.Div, ast.Import,
+    ast.AsyncFunctionDef, ast.Global, ast.Await, ast.GeneratorExp, ast.Div, ast.Import,
     ast.AnnAssign, ast.Yield, ast.YieldFrom, ast.NamedExpr)
 BARRED_WORDS = set(
     "type typing enum Enum IntEnum Flag Generic Protocol ABC namedtuple NamedTuple TypedDict register mro elements"
@@ -82,6 +83,23 @@ class Language(unittest.TestCase):
                 self.assertNotIsInstance(node, BARRED_NODES, (path, getattr(node, "lineno", 0)))
                 for field in ("id", "attr", "arg", "name"):
                     self.assertNotIn(getattr(node, field, None), BARRED_WORDS, (path, getattr(node, "lineno", 0)))
+
+    def test_errors_that_are_caught(self):
+        for path, text in sources():
+            for node in ast.walk(ast.parse(text)):
+                if isinstance(node, ast.Try):
+                    self.assertEqual((node.orelse, node.finalbody), ([], []), (path, node.lineno))
+                    for handler in node.handlers:
+                        self.assertIn(handler.type.id, vars(errors), (path, node.lineno))
+
+    def test_what_stands_behind_a_block(self):
+        for path, text in sources():
+            for node in ast.walk(ast.parse(text)):
+                if isinstance(node, ast.FunctionDef) and node.name == "__exit__":
+                    self.assertEqual([one.arg for one in node.args.args], ["self", "kind", "value", "trace"])
+                    for one in ast.walk(node):
+                        self.assertNotIsInstance(one, (ast.Call, ast.Return, ast.For, ast.Subscript), (path, node.lineno))
+                        self.assertFalse(isinstance(one, ast.Name) and one.id in ("value", "trace"), (path, node.lineno))
 
     def test_local_names(self):
         for path, text in sources():
