@@ -128,7 +128,7 @@ class Within(unittest.TestCase):
     def test_beside_all_small_shops(self):
         chance = random.Random(222)
         found = {"within": 0, "parts": 0}
-        for book in fitted_books(223, 60, (2, 2, 1), 2, (1, 2)):
+        for book in fitted_books(223, 36, (2, 2, 1), 2, (1, 2)):
             for other in near_books(chance, book, 2):
                 small = small_stocks(manners_of(book), 3, 1)
                 stocks = [stock for stock in small if keeps(stock, book.facts)]
@@ -192,7 +192,7 @@ class Within(unittest.TestCase):
     def test_values_near_to_right_ones(self):
         chance = random.Random(224)
         words = {True: 0, False: 0}
-        for book in fitted_books(225, 20, (2, 2, 1), 2, (1, 2)):
+        for book in fitted_books(225, 12, (2, 2, 1), 2, (1, 2)):
             for other in near_books(chance, book, 2):
                 told = within(book, other)
                 for value in bent(told) + [("parts", told[1]), ("within", told[1]), within(other, book), alike(book, other)]:

@@ -69,7 +69,7 @@ class Plan(unittest.TestCase):
     def test_beside_all_starts(self):
         chance = random.Random(240)
         found = {}
-        for many, most, number in ((1, 4, 20), (2, 4, 40), (3, 3, 20), (4, 1, 20), (4, 2, 6)):
+        for many, most, number in ((1, 4, 20), (2, 4, 30), (3, 3, 12), (4, 1, 16), (4, 2, 4)):
             for book in fitted_books(241 + many, number, (6, 4, 1), 3) + seen_books(241 + many, number):
                 tasks = some_tasks(chance, book, many, most)
                 for every in (True, False):
@@ -81,12 +81,12 @@ class Plan(unittest.TestCase):
                     late = told != () and told[0] > max(ticks for _, ticks in tasks)
                     found[every, told == (), late] = found.get((every, told == (), late), 0) + 1
         self.assertEqual(len(found), 6)
-        self.assertGreater(min(found.values()), 10)
+        self.assertGreater(min(found.values()), 5)
 
     def test_beside_all_small_shops(self):
         chance = random.Random(242)
         sooner = 0
-        for book in fitted_books(243, 30, (3, 1, 0), 3, (1, 2)):
+        for book in fitted_books(243, 20, (3, 1, 0), 3, (1, 2)):
             tasks = some_tasks(chance, book, 3, 2)
             stocks = [stock for stock in small_stocks(manners_of(book), 2, 1) if keeps(stock, book.facts)]
             surely, perhaps = plan(book, tasks), plan(book, tasks, every=False)
@@ -106,7 +106,7 @@ class Plan(unittest.TestCase):
 
     def test_what_is_shown_of_a_row(self):
         chance = random.Random(244)
-        for book in fitted_books(245, 40, (6, 4, 1), 3):
+        for book in fitted_books(245, 24, (6, 4, 1), 3):
             tasks = some_tasks(chance, book, 4, 4)
             surely, perhaps = plan(book, tasks), plan(book, tasks, every=None)
             for told, every in ((surely, True), (perhaps, False)):
@@ -170,7 +170,7 @@ class Plan(unittest.TestCase):
         self.assertEqual(plan(book, (("a", 1), ("b", 1)), every=False), ())
 
     def test_every_is_true_alone(self):
-        for every in [1, 0, "True", None, False, (), (True,), [True], 1.0, "", BOOK, -1] + any_values():
+        for every in [1, 0, "True", None, False, (), (True,), [True], 1.0, "", BOOK, -1] + any_values()[::5]:
             if every is not True:
                 self.assertEqual(plan(BOOK, TASKS, every=every)[0], 2, every)
                 self.assertIs(shows_plan(BOOK, TASKS, plan(BOOK, TASKS), every=every), False)
